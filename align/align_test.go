@@ -6,6 +6,7 @@ import (
 	"testing"
 
 	"sennit/api"
+	"sennit/every"
 )
 
 // stable is a stable chunk of as many spans as there are rows of two numbers, From and To: the base's first, then each side's.
@@ -47,35 +48,9 @@ func checkWrong(t *testing.T, name string, m int, sizes []int, matches [][]int) 
 	}
 }
 
-// eachPlace is n numbers, each what next tells of its place.
-func eachPlace(n int, next func(i int) int) []int {
-	l := make([]int, n)
-	for i := range l {
-		l[i] = next(i)
-	}
-	return l
-}
-
 func rising(i int) int { return i }
 
 func noPair(int) int { return -1 }
-
-// eachList calls see with every list of just n of the things; see may not keep it.
-func eachList[T any](things []T, n int, see func([]T)) {
-	list := make([]T, n)
-	var fill func(int)
-	fill = func(at int) {
-		if at == n {
-			see(list)
-			return
-		}
-		for _, thing := range things {
-			list[at] = thing
-			fill(at + 1)
-		}
-	}
-	fill(0)
-}
 
 // isMatchByWords is the document's word of a match, asked of each two numbers.
 func isMatchByWords(match []int, n int) bool {
@@ -110,11 +85,11 @@ func apart(sides []side) (sizes []int, matches [][]int) {
 func sidesOf(m, most int) []side {
 	var all []side
 	for n := range most + 1 {
-		eachList(eachPlace(n+1, func(i int) int { return i - 1 }), m, func(match []int) {
+		for match := range every.List(every.Place(n+1, func(i int) int { return i - 1 }), m) {
 			if isMatchByWords(match, n) {
 				all = append(all, side{slices.Clone(match), n})
 			}
-		})
+		}
 	}
 	return all
 }
@@ -124,10 +99,10 @@ func eachSides(see func(m int, sizes []int, matches [][]int)) {
 	for _, c := range []struct{ m, sides, most int }{
 		{0, 1, 4}, {1, 1, 4}, {2, 1, 4}, {3, 1, 4}, {4, 1, 5}, {5, 1, 5}, {0, 2, 3}, {1, 2, 3}, {2, 2, 3}, {3, 2, 4}, {4, 2, 4}, {0, 3, 2}, {1, 3, 2}, {2, 3, 3}, {3, 3, 3},
 	} {
-		eachList(sidesOf(c.m, c.most), c.sides, func(sides []side) {
+		for sides := range every.List(sidesOf(c.m, c.most), c.sides) {
 			sizes, matches := apart(sides)
 			see(c.m, sizes, matches)
-		})
+		}
 	}
 }
 
@@ -282,7 +257,7 @@ func TestAlignIsAsTheWordsSay(t *testing.T) {
 
 func TestAsManySidesAsMayBe(t *testing.T) {
 	const most = 16
-	sizes := eachPlace(most, func(int) int { return 3 })
+	sizes := every.Place(most, func(int) int { return 3 })
 	matches := slices.Repeat([][]int{{0, 1, 2}}, most)
 	row := [2]int{0, 3}
 	checkAlign(t, 3, sizes, matches, stable(slices.Repeat([][2]int{row}, most+1)...))
@@ -300,11 +275,11 @@ func TestAsManySidesAsMayBe(t *testing.T) {
 // The chapter sets no limit to how long a base, or a side, is.
 func TestLongBasesAndSides(t *testing.T) {
 	const m = 100000
-	full, none := eachPlace(m, rising), eachPlace(m, noPair)
+	full, none := every.Place(m, rising), every.Place(m, noPair)
 	checkAlign(t, m, []int{m}, [][]int{full}, stable([2]int{0, m}, [2]int{0, m}))
 	checkAlign(t, m, []int{m, 5}, [][]int{full, none}, other([2]int{0, m}, [2]int{0, m}, [2]int{0, 5}))
-	everyOther := eachPlace(m, func(i int) int { return i | -(i & 1) })
-	spread := eachPlace(m, func(i int) int { return 2 * i })
+	everyOther := every.Place(m, func(i int) int { return i | -(i & 1) })
+	spread := every.Place(m, func(i int) int { return 2 * i })
 	sizes, matches := []int{m, m, 2*m + 1}, [][]int{full, everyOther, spread}
 	checkAlign(t, m, sizes, matches, chunksByWords(m, sizes, matches)...)
 	if l, _ := Align(m, sizes, matches); len(l) != m {
@@ -385,7 +360,7 @@ func TestWhatIsNoMatch(t *testing.T) {
 		if c.m < 0 || c.m > 100 {
 			continue
 		}
-		right := eachPlace(c.m, rising)
+		right := every.Place(c.m, rising)
 		checkWrong(t, c.name+", the first of two", c.m, []int{c.size, c.m}, [][]int{c.match, right})
 		checkWrong(t, c.name+", the second of two", c.m, []int{c.m, c.size}, [][]int{right, c.match})
 		checkWrong(t, c.name+", the last of 16", c.m, append(slices.Repeat([]int{c.m}, 15), c.size), append(slices.Repeat([][]int{right}, 15), c.match))
@@ -397,14 +372,14 @@ func TestAllListsOfNumbers(t *testing.T) {
 	for m := range 4 {
 		for size := -1; size < 4; size++ {
 			for count := range 5 {
-				eachList([]int{-2, -1, 0, 1, 2, 3, 4}, count, func(match []int) {
+				for match := range every.List([]int{-2, -1, 0, 1, 2, 3, 4}, count) {
 					sizes, matches := []int{size}, [][]int{match}
 					if count == m && isMatchByWords(match, size) {
 						checkAlign(t, m, sizes, matches, chunksByWords(m, sizes, matches)...)
 					} else {
 						checkWrong(t, "no match", m, sizes, matches)
 					}
-				})
+				}
 			}
 		}
 	}
@@ -516,7 +491,7 @@ func allLists(steady bool, at, ends []int, matches [][]int) [][]api.Chunk {
 
 func TestNoOtherListOfChunksIsSo(t *testing.T) {
 	for _, c := range []struct{ m, sides, most int }{{0, 1, 3}, {1, 1, 3}, {2, 1, 4}, {3, 1, 4}, {4, 1, 4}, {0, 2, 2}, {1, 2, 2}, {2, 2, 3}, {3, 2, 3}, {2, 3, 2}} {
-		eachList(sidesOf(c.m, c.most), c.sides, func(sides []side) {
+		for sides := range every.List(sidesOf(c.m, c.most), c.sides) {
 			sizes, matches := apart(sides)
 			ends := append([]int{c.m}, sizes...)
 			start := make([]int, len(ends))
@@ -528,6 +503,6 @@ func TestNoOtherListOfChunksIsSo(t *testing.T) {
 				t.Fatalf("%d, %v, %v: %d lists of chunks are so: %v", c.m, sizes, matches, len(all), all)
 			}
 			checkAlign(t, c.m, sizes, matches, all[0]...)
-		})
+		}
 	}
 }

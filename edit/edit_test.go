@@ -6,6 +6,7 @@ import (
 	"testing"
 
 	"sennit/api"
+	"sennit/every"
 )
 
 // changes are as many changes as there are rows of four numbers: Old's From and To, New's From and To.
@@ -17,35 +18,9 @@ func changes(rows ...[4]int) []api.Change {
 	return l
 }
 
-// eachPlace is n numbers, each what next tells of its place.
-func eachPlace(n int, next func(i int) int) []int {
-	l := make([]int, n)
-	for i := range l {
-		l[i] = next(i)
-	}
-	return l
-}
-
 func rising(i int) int { return i }
 
 func noPair(int) int { return -1 }
-
-// eachList calls see with every list of just n of the things; see may not keep it.
-func eachList[T any](things []T, n int, see func([]T)) {
-	list := make([]T, n)
-	var fill func(int)
-	fill = func(at int) {
-		if at == n {
-			see(list)
-			return
-		}
-		for _, thing := range things {
-			list[at] = thing
-			fill(at + 1)
-		}
-	}
-	fill(0)
-}
 
 // isMatchByWords is the document's word of a match, asked of each two numbers.
 func isMatchByWords(match []int, n int) bool {
@@ -65,11 +40,11 @@ func isMatchByWords(match []int, n int) bool {
 // matchesOf are all matches of m places to n.
 func matchesOf(m, n int) [][]int {
 	var all [][]int
-	eachList(eachPlace(n+1, func(i int) int { return i - 1 }), m, func(match []int) {
+	for match := range every.List(every.Place(n+1, func(i int) int { return i - 1 }), m) {
 		if isMatchByWords(match, n) {
 			all = append(all, slices.Clone(match))
 		}
-	})
+	}
 	return all
 }
 
@@ -168,13 +143,13 @@ func TestChanges(t *testing.T) {
 
 func TestChangesOfAsManyAsMayBe(t *testing.T) {
 	const most = 2000
-	full := eachPlace(most, rising)
+	full := every.Place(most, rising)
 	checkChanges(t, full, most, nil)
 	checkChanges(t, full[:most-1], most, changes([4]int{most - 1, most - 1, most - 1, most}))
-	checkChanges(t, eachPlace(most, noPair), most, changes([4]int{0, most, 0, most}))
-	checkChanges(t, eachPlace(most, noPair), 0, changes([4]int{0, most, 0, 0}))
+	checkChanges(t, every.Place(most, noPair), most, changes([4]int{0, most, 0, most}))
+	checkChanges(t, every.Place(most, noPair), 0, changes([4]int{0, most, 0, 0}))
 	checkChanges(t, nil, most, changes([4]int{0, 0, 0, most}))
-	everyOther := eachPlace(most, func(i int) int { return i | -(i & 1) })
+	everyOther := every.Place(most, func(i int) int { return i | -(i & 1) })
 	checkChanges(t, everyOther, most, changesByWords(everyOther, most))
 	if l, _ := Changes(everyOther, most); len(l) != most/2 {
 		t.Errorf("%d changes", len(l))
@@ -188,13 +163,13 @@ func TestChangesOfTooMany(t *testing.T) {
 		match []int
 		n     int
 	}{
-		{"numbers", eachPlace(over, noPair), 0},
-		{"numbers, all paired", eachPlace(over, rising), over - 1},
+		{"numbers", every.Place(over, noPair), 0},
+		{"numbers, all paired", every.Place(over, rising), over - 1},
 		{"new places", nil, over},
-		{"new places, as many as may be paired", eachPlace(over-1, rising), over},
-		{"both", eachPlace(over, rising), over},
+		{"new places, as many as may be paired", every.Place(over-1, rising), over},
+		{"both", every.Place(over, rising), over},
 		{"very many new places", []int{0}, math.MaxInt},
-		{"numbers, and n is below 0", eachPlace(over, noPair), -1},
+		{"numbers, and n is below 0", every.Place(over, noPair), -1},
 		{"numbers that are no match", make([]int, over), 5},
 		{"new places, and no match", []int{1, 0}, over},
 		{"new places, and a number below -1", []int{-2}, over},
@@ -237,13 +212,13 @@ func TestChangesOfWhatIsNoMatch(t *testing.T) {
 func TestChangesOfAllListsOfNumbers(t *testing.T) {
 	for m := range 5 {
 		for n := range 5 {
-			eachList([]int{-2, -1, 0, 1, 2, 3, 4}, m, func(match []int) {
+			for match := range every.List([]int{-2, -1, 0, 1, 2, 3, 4}, m) {
 				if isMatchByWords(match, n) {
 					checkChanges(t, match, n, changesByWords(match, n))
 				} else {
 					checkNoChanges(t, "no match", match, n, api.ErrArg)
 				}
-			})
+			}
 		}
 	}
 }
@@ -271,13 +246,13 @@ func TestMatch(t *testing.T) {
 
 func TestMatchOfAsManyAsMayBe(t *testing.T) {
 	const most = 2000
-	full := eachPlace(most, rising)
+	full := every.Place(most, rising)
 	checkMatch(t, nil, most, most, full)
-	checkMatch(t, changes([4]int{0, most, 0, most}), most, most, eachPlace(most, noPair))
-	checkMatch(t, changes([4]int{0, most, 0, 0}), most, 0, eachPlace(most, noPair))
+	checkMatch(t, changes([4]int{0, most, 0, most}), most, most, every.Place(most, noPair))
+	checkMatch(t, changes([4]int{0, most, 0, 0}), most, 0, every.Place(most, noPair))
 	checkMatch(t, changes([4]int{0, 0, 0, most}), 0, most, nil)
 	checkMatch(t, changes([4]int{most - 1, most - 1, most - 1, most}), most-1, most, full[:most-1])
-	everyOther := eachPlace(most, func(i int) int { return i | -(i & 1) })
+	everyOther := every.Place(most, func(i int) int { return i | -(i & 1) })
 	checkMatch(t, changesByWords(everyOther, most), most, most, everyOther)
 }
 
@@ -371,13 +346,13 @@ func TestMatchOfChangesThatNoMatchHas(t *testing.T) {
 // What is reckoned with these would be above or below what an int holds.
 func TestMatchOfChangesWithGreatNumbers(t *testing.T) {
 	ends := []int{math.MinInt, math.MinInt + 1, -1, 0, 1, 2, math.MaxInt - 1, math.MaxInt}
-	eachList(ends, 4, func(r []int) {
+	for r := range every.List(ends, 4) {
 		l := changes([4]int(r))
 		match, e := Match(l, 2, 2)
 		if want, ok := matchByWords(l, 2, 2); !sameMatch(match, e, want, ok) {
 			t.Fatalf("%v: error %d, %v, want %v, %v", l, e, match, ok, want)
 		}
-	})
+	}
 	for _, to := range []int{3, math.MaxInt} {
 		checkNoMatch(t, "behind another one", changes([4]int{0, 1, 0, 1}, [4]int{math.MinInt, to, math.MinInt, to}), 3, 3, api.ErrArg)
 	}
@@ -435,19 +410,19 @@ func TestMatchOfAllListsOfChanges(t *testing.T) {
 				}
 			}
 			for size := range 2 {
-				eachList(known, size, func(l []api.Change) {
+				for l := range every.List(known, size) {
 					match, e := Match(l, m, n)
 					if want, ok := matchByWords(l, m, n); !sameMatch(match, e, want, ok) {
 						t.Fatalf("%v, of %d, to %d: error %d, %v, want %v, %v", l, m, n, e, match, ok, want)
 					}
-				})
+				}
 			}
-			eachList(known, 2, func(l []api.Change) {
+			for l := range every.List(known, 2) {
 				match, e := Match(l, m, n)
 				if want, ok := wanted[[2]api.Change(l)]; !sameMatch(match, e, want, ok) {
 					t.Fatalf("%v, of %d, to %d: error %d, %v, want %v, %v", l, m, n, e, match, ok, want)
 				}
-			})
+			}
 		}
 	}
 }
@@ -505,7 +480,7 @@ func TestSwapOfMany(t *testing.T) {
 
 // turned is the match of n places to len(match), with the same pairs.
 func turned(match []int, n int) []int {
-	back := eachPlace(n, noPair)
+	back := every.Place(n, noPair)
 	for i, j := range match {
 		if j >= 0 {
 			back[j] = i
@@ -550,7 +525,7 @@ func TestMatchesThereAndBackAndNoTwoWithTheSameChanges(t *testing.T) {
 // scattered is a match of m places to n, always the same one for the same seed: of each place the first bits tell whether it is paired, and how many new places are passed over.
 func scattered(m, n int, seed uint64) []int {
 	next := 0
-	return eachPlace(m, func(int) int {
+	return every.Place(m, func(int) int {
 		seed = seed*6364136223846793005 + 1442695040888963407
 		bits := int(seed >> 40)
 		next += bits >> 3 % 3 * (bits >> 1 & 1)

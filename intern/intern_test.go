@@ -6,27 +6,12 @@ import (
 	"strconv"
 	"strings"
 	"testing"
+
+	"sennit/every"
 )
 
 // alikeTexts differ from each other, though some look alike, or are parts of others.
 var alikeTexts = []string{"", "a", "a\n", "A", "a ", "a\x00", "\xff", "aa", "\u00e9", "e\u0301"}
-
-// eachList calls see with every list of just n of the texts.
-func eachList(texts []string, n int, see func([]string)) {
-	list := make([]string, n)
-	var fill func(int)
-	fill = func(at int) {
-		if at == n {
-			see(list)
-			return
-		}
-		for _, text := range texts {
-			list[at] = text
-			fill(at + 1)
-		}
-	}
-	fill(0)
-}
 
 // firstComeNumbers is what P2.1 asks of texts in turn, reckoned without a table: the place of each among the texts that differ, as they first come.
 func firstComeNumbers(texts []string) (ids []int, differing []string) {
@@ -191,12 +176,12 @@ func TestAllIsByANewTableEachTime(t *testing.T) {
 }
 
 func TestAllIsTheIdsOfOneTable(t *testing.T) {
-	eachList(alikeTexts[:3], 5, func(list []string) {
+	for list := range every.List(alikeTexts[:3], 5) {
 		ids, _ := firstComeNumbers(list)
 		for cut := range len(list) + 1 {
 			checkAll(t, All(list[:cut], list[cut:]), ids[:cut], ids[cut:])
 		}
-	})
+	}
 }
 
 func TestAllKeepsItsFilesAndSharesNoLists(t *testing.T) {
@@ -213,12 +198,12 @@ func TestAllKeepsItsFilesAndSharesNoLists(t *testing.T) {
 // P2.3.
 
 func TestOneNumberJustIfTheSameText(t *testing.T) {
-	eachList(alikeTexts, 4, func(list []string) {
+	for list := range every.List(alikeTexts, 4) {
 		table := New()
 		ids, differing := firstComeNumbers(list)
 		checkIds(t, table, list, ids...)
 		checkTexts(t, table, differing...)
-	})
+	}
 }
 
 func TestTheSameTextOfOtherMemory(t *testing.T) {

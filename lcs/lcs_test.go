@@ -7,23 +7,8 @@ import (
 	"testing"
 
 	"sennit/api"
+	"sennit/every"
 )
-
-// allLists are all lists of at most n of the numbers.
-func allLists(numbers []int, n int) [][]int {
-	all := [][]int{nil}
-	from := 0
-	for range n {
-		to := len(all)
-		for _, list := range all[from:to] {
-			for _, number := range numbers {
-				all = append(all, append(slices.Clone(list), number))
-			}
-		}
-		from = to
-	}
-	return all
-}
 
 // chosen is what stands at the places of l whose bits are set.
 func chosen(l []int, bits int) []int {
@@ -134,18 +119,9 @@ func checkCommon(t *testing.T, a, b, match []int, long int) {
 	}
 }
 
-// eachPlace is n numbers, each what next tells of its place.
-func eachPlace(n int, next func(i int) int) []int {
-	l := make([]int, n)
-	for i := range l {
-		l[i] = next(i)
-	}
-	return l
-}
-
 // scattered are n numbers below many, always the same ones for the same seed.
 func scattered(n, many int, seed uint64) []int {
-	return eachPlace(n, func(int) int {
+	return every.Place(n, func(int) int {
 		seed = seed*6364136223846793005 + 1442695040888963407
 		return int(seed>>33) % many
 	})
@@ -181,15 +157,15 @@ func TestNewOfListsThatAreTooLong(t *testing.T) {
 
 func TestNewOfListsAsLongAsMayBe(t *testing.T) {
 	const most = 2000
-	full, turned := eachPlace(most, rising), eachPlace(most, func(i int) int { return most - 1 - i })
-	nothing := eachPlace(most, func(int) int { return -1 })
+	full, turned := every.Place(most, rising), every.Place(most, func(i int) int { return most - 1 - i })
+	nothing := every.Place(most, func(int) int { return -1 })
 	checkPair(t, full, full, most, full)
 	checkPair(t, full, nil, 0, nothing)
 	checkPair(t, nil, full, 0, nil)
 	checkPair(t, make([]int, most), []int{0, 0, 0}, 3, append([]int{0, 1, 2}, nothing[3:]...))
 	checkPair(t, []int{0, 1999}, full, 2, []int{0, 1999})
 	checkPair(t, full, turned, 1, append(slices.Clone(nothing[1:]), 0))
-	checkPair(t, full, eachPlace(most, func(i int) int { return i + most }), 0, nothing)
+	checkPair(t, full, every.Place(most, func(i int) int { return i + most }), 0, nothing)
 }
 
 func TestItIsReckonedOnceWhateverIsAsked(t *testing.T) {
@@ -331,7 +307,7 @@ func TestOfAPairThatIsNil(t *testing.T) {
 // P3.1, P3.2 and P3.4, of all short lists.
 
 func TestAllShortListsAreAsTheWordsSay(t *testing.T) {
-	for _, lists := range [][][]int{allLists([]int{0, 1, 2}, 4), allLists([]int{-1, 3}, 5)} {
+	for _, lists := range [][][]int{slices.Collect(every.UpTo([]int{0, 1, 2}, 4)), slices.Collect(every.UpTo([]int{-1, 3}, 5))} {
 		for _, a := range lists {
 			for _, b := range lists {
 				l := func(i, j int) int { return longest(a[i:], b[j:]) }
@@ -360,12 +336,12 @@ func TestLongListsAreAsTheWordsSay(t *testing.T) {
 // P3.4: what both lists begin with.
 
 func TestWhatBothListsBeginWithIsPairedPlaceByPlace(t *testing.T) {
-	lists := allLists([]int{0, 1}, 3)
+	lists := slices.Collect(every.UpTo([]int{0, 1}, 3))
 	for _, begin := range lists {
 		for _, a := range lists {
 			for _, b := range lists {
 				match := pairOf(t, slices.Concat(begin, a), slices.Concat(begin, b)).Match()
-				if want := eachPlace(len(begin), rising); !slices.Equal(match[:len(begin)], want) {
+				if want := every.Place(len(begin), rising); !slices.Equal(match[:len(begin)], want) {
 					t.Fatalf("%v, behind it %v, and %v: %v", begin, a, b, match)
 				}
 			}
@@ -373,7 +349,7 @@ func TestWhatBothListsBeginWithIsPairedPlaceByPlace(t *testing.T) {
 	}
 	begin := scattered(1500, 3, 5)
 	match := pairOf(t, slices.Concat(begin, scattered(500, 3, 6)), slices.Concat(begin, scattered(400, 3, 7))).Match()
-	if !slices.Equal(match[:1500], eachPlace(1500, rising)) {
+	if !slices.Equal(match[:1500], every.Place(1500, rising)) {
 		t.Errorf("%v", match[:1500])
 	}
 }

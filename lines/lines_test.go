@@ -5,6 +5,8 @@ import (
 	"slices"
 	"strings"
 	"testing"
+
+	"sennit/every"
 )
 
 // allTexts are all texts of at most n bytes of the alphabet.
@@ -16,22 +18,6 @@ func allTexts(alphabet string, n int) []string {
 		for _, text := range all[from:to] {
 			for i := range len(alphabet) {
 				all = append(all, text+alphabet[i:i+1])
-			}
-		}
-		from = to
-	}
-	return all
-}
-
-// allLists are all lists of at most n of the texts.
-func allLists(texts []string, n int) [][]string {
-	all := [][]string{nil}
-	from := 0
-	for range n {
-		to := len(all)
-		for _, list := range all[from:to] {
-			for _, text := range texts {
-				all = append(all, append(slices.Clone(list), text))
 			}
 		}
 		from = to
@@ -184,7 +170,7 @@ func TestMayOfListsThatMayNotBe(t *testing.T) {
 }
 
 func TestMayIsWhatTheWordsSay(t *testing.T) {
-	for _, l := range allLists(allTexts("a\n", 3), 3) {
+	for l := range every.UpTo(allTexts("a\n", 3), 3) {
 		if May(l) != mayBe(l) {
 			t.Fatalf("%q: %v", l, May(l))
 		}
@@ -252,7 +238,7 @@ func TestManyBytesThereAndBack(t *testing.T) {
 }
 
 func TestListsThatMayBeThereAndBackAndNoOthers(t *testing.T) {
-	for _, l := range allLists(allTexts("a\n", 3), 3) {
+	for l := range every.UpTo(allTexts("a\n", 3), 3) {
 		back := slices.Equal(Split(Join(l)), l)
 		if back != mayBe(l) {
 			t.Fatalf("%q: there and back %v", l, back)
