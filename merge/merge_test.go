@@ -9,13 +9,12 @@ import (
 
 	"sennit/align"
 	"sennit/api"
+	"sennit/brief"
 	"sennit/every"
 	"sennit/lcs"
 	"sennit/lines"
 	"sennit/pick"
 )
-
-// Files are written as texts here: a letter is a line, and a letter with a ~ behind it is an open line; sides have a comma between.
 
 var (
 	none    = api.How{}
@@ -24,46 +23,6 @@ var (
 
 func favour(side int) api.How {
 	return api.How{Favour: side}
-}
-
-func file(letters string) []string {
-	var l []string
-	for _, letter := range letters {
-		if letter == '~' {
-			l[len(l)-1] = strings.TrimSuffix(l[len(l)-1], "\n")
-			continue
-		}
-		l = append(l, string(letter)+"\n")
-	}
-	return l
-}
-
-func files(letters string) [][]string {
-	var all [][]string
-	for side := range strings.SplitSeq(letters, ",") {
-		all = append(all, file(side))
-	}
-	return all
-}
-
-func shown(l []string) string {
-	var s strings.Builder
-	for _, text := range l {
-		line, ended := strings.CutSuffix(text, "\n")
-		s.WriteString(line)
-		if !ended {
-			s.WriteByte('~')
-		}
-	}
-	return s.String()
-}
-
-func shownAll(lists [][]string) string {
-	all := make([]string, len(lists))
-	for k, l := range lists {
-		all[k] = shown(l)
-	}
-	return strings.Join(all, ",")
 }
 
 // cutOut are the lists' texts that lie in the chunk.
@@ -97,7 +56,7 @@ func shownChunks(t *testing.T, base []string, sides [][]string, l []api.Chunk) s
 		if c.Stable {
 			all[at] = "="
 		}
-		all[at] += shown(part) + ":" + shownAll(parts)
+		all[at] += brief.Shown(part) + ":" + brief.ShownAll(parts)
 	}
 	return strings.Join(all, " ")
 }
@@ -109,22 +68,6 @@ func ends(base []string, sides [][]string) api.Chunk {
 		c.Sides = append(c.Sides, api.Span{From: len(side), To: len(side)})
 	}
 	return c
-}
-
-// shownPieces has each text as it is, and each conflict in angle brackets: its base, a colon, and its sides. What isn't of a piece's kind stands behind an exclamation mark.
-func shownPieces(l []api.Piece) string {
-	all := make([]string, len(l))
-	for at, p := range l {
-		switch {
-		case p.Conflict && len(p.Text) == 0:
-			all[at] = "<" + shown(p.Base) + ":" + shownAll(p.Sides) + ">"
-		case !p.Conflict && len(p.Base) == 0 && len(p.Sides) == 0:
-			all[at] = shown(p.Text)
-		default:
-			all[at] = "!" + shown(p.Text) + ":" + shown(p.Base) + ":" + shownAll(p.Sides)
-		}
-	}
-	return strings.Join(all, " ")
 }
 
 func chunksOf(t *testing.T, base []string, sides [][]string) []api.Chunk {
@@ -150,14 +93,14 @@ func mergedText(t *testing.T, base []string, sides [][]string, how api.How) []st
 	t.Helper()
 	l := merged(t, base, sides, how)
 	if !pick.Clean(l) {
-		t.Fatalf("%q, %q, %+v: %s", base, sides, how, shownPieces(l))
+		t.Fatalf("%q, %q, %+v: %s", base, sides, how, brief.ShownPieces(l))
 	}
 	return pick.Choose(l, 0)
 }
 
 func checkChunks(t *testing.T, base, sides, want string) {
 	t.Helper()
-	b, s := file(base), files(sides)
+	b, s := brief.File(base), brief.Files(sides)
 	if got := shownChunks(t, b, s, chunksOf(t, b, s)); got != want {
 		t.Fatalf("%s, %s: %s, want %s", base, sides, got, want)
 	}
@@ -165,7 +108,7 @@ func checkChunks(t *testing.T, base, sides, want string) {
 
 func checkMerge(t *testing.T, base, sides string, how api.How, want string) {
 	t.Helper()
-	if got := shownPieces(merged(t, file(base), files(sides), how)); got != want {
+	if got := brief.ShownPieces(merged(t, brief.File(base), brief.Files(sides), how)); got != want {
 		t.Fatalf("%s, %s, %+v: %s, want %s", base, sides, how, got, want)
 	}
 }
@@ -197,38 +140,18 @@ func hows(sides int) []api.How {
 	return all
 }
 
-// endedFiles are all of at most n lines of the letters.
-func endedFiles(letters string, n int) [][]string {
-	var all [][]string
-	for list := range every.UpTo(strings.Split(letters, ""), n) {
-		all = append(all, file(strings.Join(list, "")))
-	}
-	return all
-}
-
-// allFiles are all of at most n lines of the letters, the last one a line, or open.
-func allFiles(letters string, n int) [][]string {
-	all := endedFiles(letters, n)
-	for _, ended := range all {
-		if len(ended) > 0 {
-			all = append(all, file(shown(ended)+"~"))
-		}
-	}
-	return all
-}
-
 // eachMerge calls see with all small bases, and sides: of the longer ones, and of more sides, those that are ended.
 func eachMerge(see func(base []string, sides [][]string)) {
 	for _, c := range []struct {
 		files [][]string
 		sides int
 	}{
-		{allFiles("ab", 4), 1},
-		{allFiles("ab", 2), 2},
-		{endedFiles("ab", 3), 2},
-		{allFiles("abc", 1), 3},
-		{endedFiles("ab", 2), 3},
-		{allFiles("a", 1), 5},
+		{brief.All("ab", 4), 1},
+		{brief.All("ab", 2), 2},
+		{brief.Ended("ab", 3), 2},
+		{brief.All("abc", 1), 3},
+		{brief.Ended("ab", 2), 3},
+		{brief.All("a", 1), 5},
 	} {
 		for lists := range every.List(c.files, c.sides+1) {
 			see(lists[0], lists[1:])
@@ -275,7 +198,7 @@ func unionByWords(texts []string) string {
 // pieceByWords is the text of a chunk, or its conflict, and whether it is one.
 func pieceByWords(c api.Chunk, base []string, sides [][]string, how api.How) (string, bool) {
 	b, s := cutOut(c, base, sides)
-	part, parts := shown(b), strings.Split(shownAll(s), ",")
+	part, parts := brief.Shown(b), strings.Split(brief.ShownAll(s), ",")
 	differing := differingByWords(part, parts)
 	switch {
 	case c.Stable || len(differing) == 0:
@@ -387,17 +310,8 @@ func TestTextsAreTheSameJustIfTheirBytesAre(t *testing.T) {
 	}
 }
 
-// numbered is n lines that all differ.
-func numbered(n int) []string {
-	l := make([]string, n)
-	for i := range l {
-		l[i] = strconv.Itoa(i) + "\n"
-	}
-	return l
-}
-
 func TestAsManyLinesAndSidesAsMayBe(t *testing.T) {
-	base := numbered(2000)
+	base := brief.Numbered(2000)
 	want, sides := slices.Clone(base), make([][]string, 16)
 	for k := range sides {
 		line := "side " + strconv.Itoa(k) + "\n"
@@ -411,13 +325,13 @@ func TestAsManyLinesAndSidesAsMayBe(t *testing.T) {
 }
 
 func TestLongFilesBesideShortOnes(t *testing.T) {
-	long, short := numbered(2000), file("a")
+	long, short := brief.Numbered(2000), brief.File("a")
 	checkText(t, long, [][]string{nil}, none, nil)
 	checkText(t, nil, [][]string{long}, none, long)
 	checkText(t, short, [][]string{short, long}, none, long)
 	checkText(t, short, [][]string{long, short}, none, long)
 	checkText(t, long, [][]string{long[:1999], long[1:]}, none, long[1:1999])
-	checkText(t, short, [][]string{long, numbered(1999)}, asUnion, slices.Concat(long, long[:1999]))
+	checkText(t, short, [][]string{long, brief.Numbered(1999)}, asUnion, slices.Concat(long, long[:1999]))
 	open := slices.Concat(long[:1999], []string{"open"})
 	checkText(t, long, [][]string{open, long}, none, open)
 }
@@ -436,9 +350,9 @@ func TestSixteenSidesInConflict(t *testing.T) {
 // P8.1, P8.2: wrong ones.
 
 func TestNoSidesAndTooMany(t *testing.T) {
-	a := file("a")
+	a := brief.File("a")
 	for _, count := range []int{0, 17, 18, 32, 1000} {
-		for _, base := range [][]string{nil, a, {""}, {"a", "a"}, numbered(2001)} {
+		for _, base := range [][]string{nil, a, {""}, {"a", "a"}, brief.Numbered(2001)} {
 			for _, side := range [][]string{nil, a, base} {
 				sides := slices.Repeat([][]string{side}, count)
 				checkError(t, strconv.Itoa(count)+" sides", base, sides, none, api.ErrArg, api.ErrArg)
@@ -456,7 +370,7 @@ func TestNoSidesAndTooMany(t *testing.T) {
 // checkWrongFile hands the file in as base, as a side, and as both.
 func checkWrongFile(t *testing.T, name string, wrong []string, want api.Errno) {
 	t.Helper()
-	a := file("a")
+	a := brief.File("a")
 	checkError(t, name+" as base", wrong, [][]string{a}, none, want, want)
 	checkError(t, name+" as base, without lines of the side", wrong, [][]string{nil}, none, want, want)
 	checkError(t, name+" as base and side", wrong, [][]string{wrong}, none, want, want)
@@ -478,16 +392,16 @@ func TestWhatMayNotBeLines(t *testing.T) {
 
 func TestTooManyLines(t *testing.T) {
 	for _, many := range []int{2001, 2002, 4000, 20000} {
-		name, long := strconv.Itoa(many)+" lines", numbered(many)
+		name, long := strconv.Itoa(many)+" lines", brief.Numbered(many)
 		checkWrongFile(t, name, long, api.ErrLong)
-		checkWrongFile(t, name+", all the same", slices.Repeat(file("a"), many), api.ErrLong)
+		checkWrongFile(t, name+", all the same", slices.Repeat(brief.File("a"), many), api.ErrLong)
 		checkWrongFile(t, name+", the last one open", append(long[:many-1:many-1], "open"), api.ErrLong)
 	}
 }
 
 func TestWrongHows(t *testing.T) {
 	for _, c := range []struct{ base, sides string }{{"", ""}, {"a", "a"}, {"a", "b,c"}, {"a", "b,a,c"}, {"a", "a,a,a,a,a,a,a,a,a,a,a,a,a,a,a,a"}} {
-		base, sides := file(c.base), files(c.sides)
+		base, sides := brief.File(c.base), brief.Files(c.sides)
 		count := len(sides)
 		for _, side := range []int{-1, -2, -count, math.MinInt, count + 1, count + 2, 17 + count, math.MaxInt} {
 			checkError(t, c.sides, base, sides, favour(side), api.OK, api.ErrArg)
@@ -506,9 +420,9 @@ func TestWrongHows(t *testing.T) {
 func spoilt(count, mayNot, long int) ([]string, [][]string) {
 	all := make([][]string, count+1)
 	for at := range all {
-		all[at] = file("ab")
+		all[at] = brief.File("ab")
 		if at == long {
-			all[at] = numbered(2001)
+			all[at] = brief.Numbered(2001)
 		}
 		if at == mayNot {
 			all[at][0] = "no line"
@@ -666,7 +580,7 @@ func TestMergeOfLinesThatStandSeveralTimes(t *testing.T) {
 func TestMergeIsAsTheWordsSay(t *testing.T) {
 	eachMerge(func(base []string, sides [][]string) {
 		for _, how := range hows(len(sides)) {
-			got, want := shownPieces(merged(t, base, sides, how)), mergeByWords(base, sides, how)
+			got, want := brief.ShownPieces(merged(t, base, sides, how)), mergeByWords(base, sides, how)
 			if got != want {
 				t.Fatalf("%q, %q, %+v: %s, want %s", base, sides, how, got, want)
 			}
@@ -681,14 +595,14 @@ func inConflict(t *testing.T, base []string, sides [][]string) bool {
 	t.Helper()
 	return slices.ContainsFunc(chunksOf(t, base, sides), func(c api.Chunk) bool {
 		b, s := cutOut(c, base, sides)
-		return len(differingByWords(shown(b), strings.Split(shownAll(s), ","))) > 1
+		return len(differingByWords(brief.Shown(b), strings.Split(brief.ShownAll(s), ","))) > 1
 	})
 }
 
 func TestItIsCleanJustIfNoChunkHasTwoContents(t *testing.T) {
 	eachMerge(func(base []string, sides [][]string) {
 		if l := merged(t, base, sides, none); pick.Clean(l) == inConflict(t, base, sides) {
-			t.Fatalf("%q, %q: %s", base, sides, shownPieces(l))
+			t.Fatalf("%q, %q: %s", base, sides, brief.ShownPieces(l))
 		}
 	})
 }
@@ -718,7 +632,7 @@ func TestWhatIsChosenIsLinesThatMayBe(t *testing.T) {
 // P8.4.
 
 func TestOfOneSideItIsThatSide(t *testing.T) {
-	all := allFiles("abc", 3)
+	all := brief.All("abc", 3)
 	for _, base := range all {
 		for _, side := range all {
 			for _, how := range hows(1) {
@@ -729,7 +643,7 @@ func TestOfOneSideItIsThatSide(t *testing.T) {
 }
 
 func TestOfSidesOfWhichJustOneIsNotTheBaseItIsThatOne(t *testing.T) {
-	all := allFiles("ab", 3)
+	all := brief.All("ab", 3)
 	for _, base := range all {
 		for _, side := range all {
 			for _, count := range []int{2, 3, 16} {
@@ -747,7 +661,7 @@ func TestOfSidesOfWhichJustOneIsNotTheBaseItIsThatOne(t *testing.T) {
 }
 
 func TestOfSidesThatAllAreTheSameItIsThese(t *testing.T) {
-	all := allFiles("ab", 3)
+	all := brief.All("ab", 3)
 	for _, base := range all {
 		for _, side := range all {
 			for _, count := range []int{2, 3, 16} {
@@ -767,7 +681,7 @@ func checkTurns(t *testing.T, base []string, sides [][]string) {
 	for turned := range every.Turn(sides) {
 		got := merged(t, base, turned, none)
 		if pick.Clean(got) != pick.Clean(want) || pick.Clean(want) && !pick.Same(got, want) {
-			t.Fatalf("%q, %q: %s, and %q: %s", base, sides, shownPieces(want), turned, shownPieces(got))
+			t.Fatalf("%q, %q: %s, and %q: %s", base, sides, brief.ShownPieces(want), turned, brief.ShownPieces(got))
 		}
 	}
 }
@@ -780,45 +694,26 @@ func TestSidesInAnotherTurn(t *testing.T) {
 		{"abcdefg", "xbcdefg,abydefg,abcdzfg,abcdvfg"},
 		{"abab~", "baba~,abab~,xabab~,abab"},
 	} {
-		checkTurns(t, file(c.base), files(c.sides))
+		checkTurns(t, brief.File(c.base), brief.Files(c.sides))
 	}
 }
 
 // What is handed in stays as it is, also where a list has room behind its end, and where what is told is written into.
 
-// roomy is the list with room behind it, where a text stands, and all that there is.
-func roomy(l []string) ([]string, []string) {
-	all := append(slices.Clone(l), "room")
-	return all[:len(l)], all
-}
-
-// spoil writes into all that the pieces have, and behind it.
-func spoil(l []api.Piece) {
-	for _, p := range l {
-		for _, list := range append([][]string{p.Text, p.Base}, p.Sides...) {
-			list = append(list, "!")
-			for i := range list {
-				list[i] = "!"
-			}
-		}
-		clear(p.Sides)
-	}
-}
-
 func TestWhatIsHandedInStays(t *testing.T) {
-	base, allBase := roomy(file("abcde"))
-	one, allOne := roomy(file("xbcdey~"))
-	two, allTwo := roomy(file("zbcde"))
-	allSides := [][]string{one, two, base, file("room")}
+	base, allBase := brief.Roomy(brief.File("abcde"))
+	one, allOne := brief.Roomy(brief.File("xbcdey~"))
+	two, allTwo := brief.Roomy(brief.File("zbcde"))
+	allSides := [][]string{one, two, base, brief.File("room")}
 	sides := allSides[:3]
 	for _, how := range hows(len(sides)) {
 		want := mergeByWords(base, sides, how)
 		for range 2 {
 			l := merged(t, base, sides, how)
-			if got := shownPieces(l); got != want {
+			if got := brief.ShownPieces(l); got != want {
 				t.Fatalf("%+v: %s, want %s", how, got, want)
 			}
-			spoil(l)
+			brief.Spoil(l)
 		}
 	}
 	for range 2 {
@@ -831,7 +726,7 @@ func TestWhatIsHandedInStays(t *testing.T) {
 		}
 		clear(l)
 	}
-	if got := shown(allBase) + " " + shown(allOne) + " " + shown(allTwo) + " " + shownAll(allSides); got != "abcderoom~ xbcdey~room~ zbcderoom~ xbcdey~,zbcde,abcde,room" {
+	if got := brief.Shown(allBase) + " " + brief.Shown(allOne) + " " + brief.Shown(allTwo) + " " + brief.ShownAll(allSides); got != "abcderoom~ xbcdey~room~ zbcderoom~ xbcdey~,zbcde,abcde,room" {
 		t.Error(got)
 	}
 }

@@ -1,0 +1,127 @@
+// Package brief writes files, and what is made of them, as short texts: the layers' tests are written in these.
+//
+// A letter is a line, and a letter with a ~ behind it is an open line; files have a comma between.
+package brief
+
+import (
+	"slices"
+	"strconv"
+	"strings"
+
+	"sennit/api"
+	"sennit/every"
+)
+
+const (
+	feed  = "\n"
+	open  = '~'
+	comma = ","
+)
+
+// File is the lines of the letters.
+func File(letters string) []string {
+	var l []string
+	for _, letter := range letters {
+		if letter == open {
+			l[len(l)-1] = strings.TrimSuffix(l[len(l)-1], feed)
+			continue
+		}
+		l = append(l, string(letter)+feed)
+	}
+	return l
+}
+
+// Files is the files that have a comma between.
+func Files(letters string) [][]string {
+	var all [][]string
+	for file := range strings.SplitSeq(letters, comma) {
+		all = append(all, File(file))
+	}
+	return all
+}
+
+// Shown is the lines as letters.
+func Shown(l []string) string {
+	var s strings.Builder
+	for _, text := range l {
+		line, ended := strings.CutSuffix(text, feed)
+		s.WriteString(line)
+		if !ended {
+			s.WriteRune(open)
+		}
+	}
+	return s.String()
+}
+
+// ShownAll is the files with a comma between.
+func ShownAll(lists [][]string) string {
+	all := make([]string, len(lists))
+	for k, l := range lists {
+		all[k] = Shown(l)
+	}
+	return strings.Join(all, comma)
+}
+
+// ShownPieces has each text as it is, and each conflict in angle brackets: its base, a colon, and its sides. What isn't of a piece's kind stands behind an exclamation mark.
+func ShownPieces(l []api.Piece) string {
+	all := make([]string, len(l))
+	for at, p := range l {
+		switch {
+		case p.Conflict && len(p.Text) == 0:
+			all[at] = "<" + Shown(p.Base) + ":" + ShownAll(p.Sides) + ">"
+		case !p.Conflict && len(p.Base) == 0 && len(p.Sides) == 0:
+			all[at] = Shown(p.Text)
+		default:
+			all[at] = "!" + Shown(p.Text) + ":" + Shown(p.Base) + ":" + ShownAll(p.Sides)
+		}
+	}
+	return strings.Join(all, " ")
+}
+
+// Ended is all files of at most n lines of the letters.
+func Ended(letters string, n int) [][]string {
+	var all [][]string
+	for list := range every.UpTo(strings.Split(letters, ""), n) {
+		all = append(all, File(strings.Join(list, "")))
+	}
+	return all
+}
+
+// All is all files of at most n lines of the letters, the last one a line, or open.
+func All(letters string, n int) [][]string {
+	all := Ended(letters, n)
+	for _, ended := range all {
+		if len(ended) > 0 {
+			all = append(all, File(Shown(ended)+string(open)))
+		}
+	}
+	return all
+}
+
+// Numbered is n lines that all differ.
+func Numbered(n int) []string {
+	l := make([]string, n)
+	for i := range l {
+		l[i] = strconv.Itoa(i) + feed
+	}
+	return l
+}
+
+// Roomy is the list with room behind its end, where a text stands, and all that there is.
+func Roomy(l []string) ([]string, []string) {
+	all := append(slices.Clone(l), "room")
+	return all[:len(l)], all
+}
+
+// Spoil writes into all that the pieces have, and behind it.
+func Spoil(l []api.Piece) {
+	for _, p := range l {
+		for _, list := range append([][]string{p.Text, p.Base}, p.Sides...) {
+			list = append(list, "!")
+			for i := range list {
+				list[i] = "!"
+			}
+		}
+		clear(p.Sides)
+	}
+}

@@ -1,0 +1,86 @@
+package brief
+
+import (
+	"slices"
+	"strings"
+	"testing"
+
+	"sennit/api"
+)
+
+func TestThereAndBack(t *testing.T) {
+	for _, c := range []struct {
+		letters string
+		files   [][]string
+	}{
+		{"", [][]string{nil}},
+		{",", [][]string{nil, nil}},
+		{"ab", [][]string{{"a\n", "b\n"}}},
+		{"ab~,c", [][]string{{"a\n", "b"}, {"c\n"}}},
+		{"a~b,,\u00e9", [][]string{{"a", "b\n"}, nil, {"\u00e9\n"}}},
+	} {
+		if got := Files(c.letters); !slices.EqualFunc(got, c.files, slices.Equal[[]string]) || ShownAll(got) != c.letters {
+			t.Errorf("%s: %q, and %s", c.letters, got, ShownAll(got))
+		}
+	}
+}
+
+func TestShownPieces(t *testing.T) {
+	a, b := File("a"), File("b~")
+	for _, c := range []struct {
+		piece api.Piece
+		want  string
+	}{
+		{api.Piece{}, ""},
+		{api.Piece{Text: b}, "b~"},
+		{api.Piece{Conflict: true}, "<:>"},
+		{api.Piece{Conflict: true, Base: a, Sides: [][]string{b, nil}}, "<a:b~,>"},
+		{api.Piece{Conflict: true, Text: a, Base: b}, "!a:b~:"},
+		{api.Piece{Text: a, Base: b}, "!a:b~:"},
+		{api.Piece{Text: a, Sides: [][]string{b}}, "!a::b~"},
+	} {
+		if got := ShownPieces([]api.Piece{{Text: a}, c.piece}); got != "a "+c.want {
+			t.Errorf("%+v: %s, want %s", c.piece, got, c.want)
+		}
+	}
+}
+
+func TestAll(t *testing.T) {
+	for _, c := range []struct {
+		letters     string
+		n           int
+		ended, open string
+	}{
+		{"ab", 0, "", ""},
+		{"", 2, "", ""},
+		{"a", 2, ",a,aa", ",a~,aa~"},
+		{"ab", 2, ",a,b,aa,ab,ba,bb", ",a~,b~,aa~,ab~,ba~,bb~"},
+	} {
+		if got := ShownAll(Ended(c.letters, c.n)); got != c.ended {
+			t.Errorf("%s, %d: ended %s, want %s", c.letters, c.n, got, c.ended)
+		}
+		if got := ShownAll(All(c.letters, c.n)); got != c.ended+c.open {
+			t.Errorf("%s, %d: all %s, want %s", c.letters, c.n, got, c.ended+c.open)
+		}
+	}
+}
+
+func TestNumbered(t *testing.T) {
+	if got := strings.Join(Numbered(11), ""); got != "0\n1\n2\n3\n4\n5\n6\n7\n8\n9\n10\n" {
+		t.Errorf("%q", got)
+	}
+}
+
+func TestRoomyAndSpoil(t *testing.T) {
+	l, all := Roomy(File("ab"))
+	if Shown(l) != "ab" || Shown(all) != "abroom~" || cap(l) != cap(all) {
+		t.Errorf("%q of %q", l, all)
+	}
+	side, allSide := Roomy(File("c"))
+	base, allBase := Roomy(nil)
+	sides := [][]string{side}
+	Spoil([]api.Piece{{Text: l, Base: base, Sides: sides}})
+	if got := Shown(all) + Shown(allSide) + Shown(allBase); got != strings.Repeat("!~", 6) || sides[0] != nil {
+		t.Errorf("%s, %q", got, sides)
+	}
+}
