@@ -62,13 +62,13 @@ func ShownAll(lists [][]string) string {
 	return strings.Join(all, comma)
 }
 
-// ShownPieces has each text as it is, and each conflict in angle brackets: its base, a colon, and its sides. What isn't of a piece's kind stands behind an exclamation mark.
+// ShownPieces has each text as it is, and each conflict in angle brackets: its base, and a colon, and its sides, if it has some. What isn't of a piece's kind stands behind an exclamation mark.
 func ShownPieces(l []api.Piece) string {
 	all := make([]string, len(l))
 	for at, p := range l {
 		switch {
 		case p.Conflict && len(p.Text) == 0:
-			all[at] = "<" + Shown(p.Base) + ":" + ShownAll(p.Sides) + ">"
+			all[at] = shownConflict(p)
 		case !p.Conflict && len(p.Base) == 0 && len(p.Sides) == 0:
 			all[at] = Shown(p.Text)
 		default:
@@ -76,6 +76,39 @@ func ShownPieces(l []api.Piece) string {
 		}
 	}
 	return strings.Join(all, " ")
+}
+
+func shownConflict(p api.Piece) string {
+	if len(p.Sides) == 0 {
+		return "<" + Shown(p.Base) + ">"
+	}
+	return "<" + Shown(p.Base) + ":" + ShownAll(p.Sides) + ">"
+}
+
+// Pieces is the pieces that are shown so, without exclamation marks.
+func Pieces(shown string) []api.Piece {
+	if shown == "" {
+		return nil
+	}
+	var l []api.Piece
+	for p := range strings.SplitSeq(shown, " ") {
+		l = append(l, Piece(p))
+	}
+	return l
+}
+
+// Piece is the one piece that is shown so.
+func Piece(shown string) api.Piece {
+	within, isConflict := strings.CutPrefix(shown, "<")
+	if !isConflict {
+		return api.Piece{Text: File(shown)}
+	}
+	base, sides, sided := strings.Cut(strings.TrimSuffix(within, ">"), ":")
+	p := api.Piece{Conflict: true, Base: File(base)}
+	if sided {
+		p.Sides = Files(sides)
+	}
+	return p
 }
 
 // Ended is all files of at most n lines of the letters.

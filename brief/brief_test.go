@@ -6,6 +6,7 @@ import (
 	"testing"
 
 	"sennit/api"
+	"sennit/pick"
 )
 
 func TestThereAndBack(t *testing.T) {
@@ -33,7 +34,10 @@ func TestShownPieces(t *testing.T) {
 	}{
 		{api.Piece{}, ""},
 		{api.Piece{Text: b}, "b~"},
-		{api.Piece{Conflict: true}, "<:>"},
+		{api.Piece{Conflict: true}, "<>"},
+		{api.Piece{Conflict: true, Base: a}, "<a>"},
+		{api.Piece{Conflict: true, Base: a, Sides: [][]string{nil}}, "<a:>"},
+		{api.Piece{Conflict: true, Sides: [][]string{nil, nil}}, "<:,>"},
 		{api.Piece{Conflict: true, Base: a, Sides: [][]string{b, nil}}, "<a:b~,>"},
 		{api.Piece{Conflict: true, Text: a, Base: b}, "!a:b~:"},
 		{api.Piece{Text: a, Base: b}, "!a:b~:"},
@@ -41,6 +45,27 @@ func TestShownPieces(t *testing.T) {
 	} {
 		if got := ShownPieces([]api.Piece{{Text: a}, c.piece}); got != "a "+c.want {
 			t.Errorf("%+v: %s, want %s", c.piece, got, c.want)
+		}
+	}
+}
+
+func TestPiecesThereAndBack(t *testing.T) {
+	a, b := File("a"), File("b~")
+	for _, c := range []struct {
+		shown string
+		want  []api.Piece
+	}{
+		{"", nil},
+		{" ", []api.Piece{{}, {}}},
+		{"a", []api.Piece{{Text: a}}},
+		{"a  b~", []api.Piece{{Text: a}, {}, {Text: b}}},
+		{"<>", []api.Piece{{Conflict: true}}},
+		{"<a> <a:>", []api.Piece{{Conflict: true, Base: a}, {Conflict: true, Base: a, Sides: [][]string{nil}}}},
+		{"a <:b~,> b~", []api.Piece{{Text: a}, {Conflict: true, Sides: [][]string{b, nil}}, {Text: b}}},
+		{"<b~:a,b~,a>", []api.Piece{{Conflict: true, Base: b, Sides: [][]string{a, b, a}}}},
+	} {
+		if got := Pieces(c.shown); !pick.Same(got, c.want) || ShownPieces(got) != c.shown {
+			t.Errorf("%s: %+v, and %s", c.shown, got, ShownPieces(got))
 		}
 	}
 }
