@@ -1,9 +1,10 @@
 // Package brief writes files, and what is made of them, as short texts: the layers' tests are written in these.
 //
-// A letter is a line, and a letter with a ~ behind it is an open line; files have a comma between.
+// A letter is a line, and a letter with a ~ behind it is an open line; files have a comma between. Lines of more than a letter stand side by side, each line feed as a stroke.
 package brief
 
 import (
+	"iter"
 	"slices"
 	"strconv"
 	"strings"
@@ -16,6 +17,8 @@ const (
 	feed  = "\n"
 	open  = '~'
 	comma = ","
+
+	stroke = "/"
 )
 
 // File is the lines of the letters.
@@ -60,6 +63,22 @@ func ShownAll(lists [][]string) string {
 		all[k] = Shown(l)
 	}
 	return strings.Join(all, comma)
+}
+
+// Lines is the lines that stand side by side, each line feed as a stroke; without one the last is an open line.
+func Lines(strokes string) []string {
+	var l []string
+	for line := range strings.SplitAfterSeq(strokes, stroke) {
+		if line != "" {
+			l = append(l, strings.ReplaceAll(line, stroke, feed))
+		}
+	}
+	return l
+}
+
+// ShownLines is the lines so.
+func ShownLines(l []string) string {
+	return strings.ReplaceAll(strings.Join(l, ""), feed, stroke)
 }
 
 // ShownPieces has each text as it is, and each conflict in angle brackets: its base, and a colon, and its sides, if it has some. What isn't of a piece's kind stands behind an exclamation mark.
@@ -109,6 +128,28 @@ func Piece(shown string) api.Piece {
 		p.Sides = Files(sides)
 	}
 	return p
+}
+
+// Conflicts is small conflicts: of one side to five, ended and open ones, empty ones, and such as are the same.
+func Conflicts() iter.Seq[api.Piece] {
+	return func(yield func(api.Piece) bool) {
+		for _, c := range []struct {
+			files [][]string
+			sides int
+		}{
+			{All("ab", 2), 1},
+			{All("ab", 2), 2},
+			{All("a", 2), 3},
+			{All("ab", 1), 3},
+			{All("a", 1), 5},
+		} {
+			for lists := range every.List(c.files, c.sides+1) {
+				if !yield(api.Piece{Conflict: true, Base: lists[0], Sides: lists[1:]}) {
+					return
+				}
+			}
+		}
+	}
 }
 
 // Ended is all files of at most n lines of the letters.

@@ -26,6 +26,51 @@ func TestThereAndBack(t *testing.T) {
 	}
 }
 
+func TestLinesThereAndBack(t *testing.T) {
+	for _, c := range []struct {
+		strokes string
+		want    []string
+	}{
+		{"", nil},
+		{"/", []string{"\n"}},
+		{"a", []string{"a"}},
+		{"a b/c/", []string{"a b\n", "c\n"}},
+		{"//a", []string{"\n", "\n", "a"}},
+	} {
+		if got := Lines(c.strokes); !slices.Equal(got, c.want) || ShownLines(got) != c.strokes {
+			t.Errorf("%s: %q, and %s", c.strokes, got, ShownLines(got))
+		}
+	}
+}
+
+func TestConflicts(t *testing.T) {
+	sides, all := map[int]int{}, map[string]bool{}
+	for p := range Conflicts() {
+		sides[len(p.Sides)]++
+		shown := ShownPieces([]api.Piece{p})
+		all[shown] = true
+		if shown == "<a:b~>" {
+			break
+		}
+	}
+	if len(sides) != 1 || !all["<:>"] || !all["<a:ab>"] || all["<b:>"] {
+		t.Errorf("broken off: %v", sides)
+	}
+	clear(sides)
+	for p := range Conflicts() {
+		sides[len(p.Sides)]++
+		all[ShownPieces([]api.Piece{p})] = true
+	}
+	for _, shown := range []string{"<:>", "<a:ab>", "<ba~:a~,a~>", "<aa:,a~,aa~>", "<b~:a,b,b>", "<a~:a,,a~,a,a>"} {
+		if !all[shown] {
+			t.Errorf("there is no %s", shown)
+		}
+	}
+	if sides[1] != 13*13 || sides[2] != 13*13*13 || sides[3] != 5*5*5*5+5*5*5*5 || sides[5] != 3*3*3*3*3*3 {
+		t.Errorf("%v", sides)
+	}
+}
+
 func TestShownPieces(t *testing.T) {
 	a, b := File("a"), File("b~")
 	for _, c := range []struct {

@@ -18,11 +18,6 @@ import (
 
 var styles = []int{api.Plain, api.Diff3, api.Zealous}
 
-// shown is lines side by side, each line feed as a stroke.
-func shown(l []string) string {
-	return strings.ReplaceAll(string(lines.Join(l)), "\n", "/")
-}
-
 func printed(t *testing.T, l []api.Piece, style, long int) []string {
 	t.Helper()
 	texts, e := Print(l, style, long)
@@ -37,7 +32,7 @@ func printed(t *testing.T, l []api.Piece, style, long int) []string {
 
 func checkPrint(t *testing.T, l []api.Piece, style, long int, want string) {
 	t.Helper()
-	if got := shown(printed(t, l, style, long)); got != want {
+	if got := brief.ShownLines(printed(t, l, style, long)); got != want {
 		t.Fatalf("%s, style %d, long %d: %s, want %s", brief.ShownPieces(l), style, long, got, want)
 	}
 }
@@ -205,24 +200,6 @@ func eachList(see func(l []api.Piece)) {
 	}
 }
 
-// eachConflict calls see with small conflicts.
-func eachConflict(see func(p api.Piece)) {
-	for _, c := range []struct {
-		files [][]string
-		sides int
-	}{
-		{brief.All("ab", 2), 1},
-		{brief.All("ab", 2), 2},
-		{brief.All("a", 2), 3},
-		{brief.All("ab", 1), 3},
-		{brief.All("a", 1), 5},
-	} {
-		for lists := range every.List(c.files, c.sides+1) {
-			see(conflict(lists[0], lists[1:]...))
-		}
-	}
-}
-
 // P12.1: ordinary pieces, in each style.
 
 func TestTexts(t *testing.T) {
@@ -355,7 +332,7 @@ func TestLinesOfAnyBytes(t *testing.T) {
 func TestLongPieces(t *testing.T) {
 	const many = 20000
 	a, b := brief.Numbered(many), slices.Repeat(brief.File("b"), many)
-	checkPrint(t, []api.Piece{{Text: a}, conflict(b, a, b), {Text: b}}, api.Diff3, 3, shown(a)+"<<< 1/"+shown(a)+"||| base/"+shown(b)+"=== 2/"+shown(b)+">>>/"+shown(b))
+	checkPrint(t, []api.Piece{{Text: a}, conflict(b, a, b), {Text: b}}, api.Diff3, 3, brief.ShownLines(a)+"<<< 1/"+brief.ShownLines(a)+"||| base/"+brief.ShownLines(b)+"=== 2/"+brief.ShownLines(b)+">>>/"+brief.ShownLines(b))
 	l := slices.Repeat(brief.Pieces("t <c:xa,xb>"), many)
 	checkPrint(t, l, api.Plain, 1, strings.Repeat("t/< 1/x/a/= 2/x/b/>/", many))
 	checkPrint(t, l, api.Zealous, 1, strings.Repeat("t/x/< 1/a/| base/c/= 2/b/>/", many))
@@ -572,11 +549,11 @@ func TestLinesAreAsTheWordsSay(t *testing.T) {
 			}
 		}
 	})
-	eachConflict(func(p api.Piece) {
+	for p := range brief.Conflicts() {
 		for _, style := range styles {
 			checkPrint(t, []api.Piece{p}, style, 1, printByWords([]api.Piece{p}, style, 1))
 		}
-	})
+	}
 }
 
 // checkSeen holds what these lines told first against what they tell now.
@@ -610,7 +587,9 @@ func TestOtherPiecesHaveOtherLines(t *testing.T) {
 		}
 	}
 	eachList(see)
-	eachConflict(func(p api.Piece) { see([]api.Piece{p}) })
+	for p := range brief.Conflicts() {
+		see([]api.Piece{p})
+	}
 	if n := len(seen[api.Diff3]); n < 1000 {
 		t.Errorf("%d lists alone", n)
 	}
@@ -626,10 +605,10 @@ func TestMergesPrinted(t *testing.T) {
 		for _, style := range styles {
 			marked := printed(t, l, style, 7)
 			if slices.Contains(marked, "<<<<<<< 1\n") == pick.Clean(l) {
-				t.Fatalf("%q: %s", lists, shown(marked))
+				t.Fatalf("%q: %s", lists, brief.ShownLines(marked))
 			}
 			if pick.Clean(l) && !slices.Equal(marked, pick.Choose(l, 0)) {
-				t.Fatalf("%q: %s, want %s", lists, shown(marked), brief.ShownPieces(l))
+				t.Fatalf("%q: %s, want %s", lists, brief.ShownLines(marked), brief.ShownPieces(l))
 			}
 		}
 	}
